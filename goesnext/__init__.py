@@ -1,0 +1,1 @@
+"""Goesnext: which line of a cache goes next."""

@@ -1,0 +1,65 @@
+"""What several modules share: blocks, rows, streams, and the accesses of a rule."""
+
+from goesnext.errors import InvalidOutcomes, InvalidRow, InvalidStream
+
+
+def is_integer(value):
+    """Whether any value is an integer; booleans are none."""
+    return isinstance(value, int) and not isinstance(value, bool)
+
+
+def is_block(value):
+    """Whether any value is a block."""
+    return is_integer(value) and 0 <= value <= 10 ** 9
+
+
+def is_stream(value):
+    """Whether any value is a stream; no length is too long."""
+    return isinstance(value, list) and all([is_block(item) for item in value])
+
+
+def check_row(row, k):
+    """Raise InvalidRow unless row is a row of k places."""
+    if not isinstance(row, list) or len(row) != k:
+        raise InvalidRow(None)
+    for index, item in enumerate(row):
+        if not is_block(item) or item in row[:index]:
+            raise InvalidRow(index)
+
+
+def check_stream(stream):
+    """Raise InvalidStream unless stream is a stream."""
+    if not isinstance(stream, list):
+        raise InvalidStream(None)
+    for index, item in enumerate(stream):
+        if not is_block(item):
+            raise InvalidStream(index)
+
+
+def check_outcomes(outcomes, many):
+    """Raise InvalidOutcomes unless outcomes is a list of so many booleans."""
+    if not isinstance(outcomes, list) or len(outcomes) != many:
+        raise InvalidOutcomes(f"not a list of {many} booleans")
+    if not all([isinstance(item, bool) for item in outcomes]):
+        raise InvalidOutcomes("an outcome is no boolean")
+
+
+def accessed(rule, row, block):
+    """The row behind one access to the block, a new list."""
+    if block not in row:
+        return [*row[1:], block]
+    moves = rule[row.index(block)]
+    behind = list(row)
+    for place, item in enumerate(row):
+        behind[moves[place]] = item
+    return behind
+
+
+def run(rule, row, stream):
+    """The outcomes of the stream and the row behind it, two new lists."""
+    outcomes = []
+    behind = list(row)
+    for block in stream:
+        outcomes.append(block in behind)
+        behind = accessed(rule, behind, block)
+    return outcomes, behind

@@ -1,0 +1,59 @@
+"""The interface stands as the document lists it, and the files keep to their sizes."""
+
+import ast
+import doctest
+import importlib
+import inspect
+import pathlib
+import unittest
+
+PACKAGE = pathlib.Path(__file__).resolve().parent.parent / "goesnext"
+INTERFACE = {
+    "permutations": {"is_permutation": ["value"], "after": ["first", "second"], "inverse": ["one"], "cycles": ["one"],
+                     "turns": ["one"], "power": ["one", "times"]},
+    "rules": {"is_rule": ["value"], "first_in": ["k"], "last_used": ["k"], "climbing": ["k"], "tree": ["k"],
+              "raised": ["targets"]},
+    "parting": {"parting_stream": ["one", "other", "row"], "shortest_parting": ["one", "other", "row"],
+                "is_parting": ["one", "other", "row", "value"], "tell_apart": ["rules", "row"],
+                "tells_apart": ["rules", "row", "value"], "fitting": ["rules", "row", "stream", "outcomes"]},
+}
+
+
+class InterfaceTest(unittest.TestCase):
+    def test_names_and_parameters(self):
+        for file, functions in INTERFACE.items():
+            module = importlib.import_module(f"goesnext.{file}")
+            for name, parameters in functions.items():
+                with self.subTest(file=file, name=name):
+                    function = getattr(module, name)
+                    self.assertEqual(function.__module__, module.__name__)
+                    told = list(inspect.signature(function).parameters.values())
+                    self.assertEqual([one.name for one in told], parameters)
+                    for one in told:
+                        self.assertIs(one.kind, inspect.Parameter.POSITIONAL_OR_KEYWORD)
+                        self.assertIs(one.default, inspect.Parameter.empty)
+
+
+class FilesTest(unittest.TestCase):
+    def test_sizes_and_characters(self):
+        for path in sorted(PACKAGE.glob("*.py")):
+            with self.subTest(path.name):
+                text = path.read_text(encoding="utf-8")
+                lines = text.split("\n")
+                self.assertLessEqual(len(lines), 399)
+                self.assertLessEqual(max(len(line) for line in lines), 120)
+                self.assertTrue(all(one == "\n" or " " <= one <= "~" for one in text))
+                for node in ast.walk(ast.parse(text)):
+                    if isinstance(node, ast.FunctionDef):
+                        self.assertLessEqual(node.end_lineno - node.lineno + 1, 40)
+
+
+class ReadmeTest(unittest.TestCase):
+    def test_examples(self):
+        told = doctest.testfile(str(PACKAGE.parent / "README.md"), module_relative=False)
+        self.assertGreater(told.attempted, 0)
+        self.assertEqual(told.failed, 0)
+
+
+if __name__ == "__main__":
+    unittest.main()
