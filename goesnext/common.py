@@ -8,6 +8,11 @@ def is_integer(value):
     return isinstance(value, int) and not isinstance(value, bool)
 
 
+def is_index(value, many):
+    """Whether any value is an integer from 0 to many - 1."""
+    return is_integer(value) and 0 <= value < many
+
+
 def is_block(value):
     """Whether any value is a block."""
     return is_integer(value) and 0 <= value <= 10 ** 9
@@ -44,15 +49,19 @@ def check_outcomes(outcomes, many):
         raise InvalidOutcomes("an outcome is no boolean")
 
 
-def accessed(rule, row, block):
-    """The row behind one access to the block, a new list."""
-    if block not in row:
-        return [*row[1:], block]
-    moves = rule[row.index(block)]
+def moved(row, moves):
+    """The row behind these moves of its places, a new list."""
     behind = list(row)
     for place, item in enumerate(row):
         behind[moves[place]] = item
     return behind
+
+
+def accessed(rule, row, block):
+    """The row behind one access to the block, a new list."""
+    if block not in row:
+        return [*row[1:], block]
+    return moved(row, rule[row.index(block)])
 
 
 def run(rule, row, stream):

@@ -11,11 +11,23 @@ PACKAGE = pathlib.Path(__file__).resolve().parent.parent / "goesnext"
 INTERFACE = {
     "permutations": {"is_permutation": ["value"], "after": ["first", "second"], "inverse": ["one"], "cycles": ["one"],
                      "turns": ["one"], "power": ["one", "times"]},
+    "groups": {"group_order": ["permutations"], "is_member": ["permutations", "one"], "members": ["permutations"],
+               "chain_lengths": ["permutations"], "word_for": ["permutations", "one"], "states_needed": ["rule"],
+               "rows_by_hits": ["rule"]},
     "rules": {"is_rule": ["value"], "first_in": ["k"], "last_used": ["k"], "climbing": ["k"], "tree": ["k"],
               "raised": ["targets"]},
+    "runs": {"outcomes_of": ["rule", "row", "stream"], "row_behind": ["rule", "row", "stream"],
+             "gone": ["rule", "row", "stream"], "lines_behind": ["rule", "row", "stream"]},
+    "wide": {"is_wide": ["value"], "stuck_places": ["wide"], "numbers": ["wide"], "normal": ["wide"],
+             "wide_of": ["rule", "numbers"], "wide_outcomes": ["wide", "row", "stream"],
+             "wide_alike": ["one", "other"]},
     "parting": {"parting_stream": ["one", "other", "row"], "shortest_parting": ["one", "other", "row"],
                 "is_parting": ["one", "other", "row", "value"], "tell_apart": ["rules", "row"],
                 "tells_apart": ["rules", "row", "value"], "fitting": ["rules", "row", "stream", "outcomes"]},
+    "tables": {"is_table": ["value"], "order_at": ["table", "state"], "rule_of": ["table", "state"],
+               "why_not": ["table", "state"], "shows_not": ["table", "state", "value"],
+               "needed_states": ["table", "state"], "parting_calls": ["one", "first", "other", "second"],
+               "least_table": ["table", "state"], "table_for": ["rule"], "tree_table": ["k"], "marks_table": ["k"]},
 }
 
 

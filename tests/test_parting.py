@@ -7,25 +7,9 @@ import unittest
 from goesnext.errors import InvalidOutcomes, InvalidRow, InvalidRule, InvalidRules, InvalidStream, OtherSize
 from goesnext.parting import fitting, is_parting, parting_stream, shortest_parting, tell_apart, tells_apart
 from goesnext.rules import climbing, first_in, last_used, tree
-from model import WRONG_KINDS, CallTest, draw_row, draw_rule, drawn, model_outcomes, nearly
+from model import (NO_ROW, NO_RULE, NO_STREAM, WRONG_KINDS, CallTest, draw_row, draw_rule, drawn, model_outcomes,
+                   nearly)
 
-NO_RULE = [(value, None) for value in WRONG_KINDS] + [
-    ([], None), ([[0]], None), ([[0, 1]], None), (([0, 1], [0, 1]), None), ({"0": [0, 1]}, None), ("[[0]]", None),
-    ([list(range(13)) for _ in range(13)], None),
-    ([[0, 1], [0, 0]], 1), ([[0, 2], [0, 1]], 0), ([[0, 1], (0, 1)], 1), ([[0, True], [0, 1]], 0), ([0, 1], 0),
-    ([[0, 1], [0, 1, 2]], 1), ([[0], [0, 1]], 0), ([[0, 1, 2], [0, 1, 2]], 0), ([[0, 1], None], 1),
-    ([[0, 1, 2], [0, 1, 2], [0, 1]], 2), ([[0, 1, 2], [0, 1, -1], [0, 1]], 1), ([[0, 1], "01"], 1),
-]
-NO_ROW = [(value, None) for value in WRONG_KINDS if not (isinstance(value, list) and len(value) == 2)] + [
-    ([], None), ([5], None), ([5, 6, 7], None), ((5, 6), None), ("56", None),
-    ([5, 5], 1), ([-1, 5], 0), ([5, -1], 1), ([5, 10 ** 9 + 1], 1), ([10 ** 9 + 1, 5], 0), ([True, 5], 0),
-    ([5, False], 1), ([0, False], 1), ([1, True], 1), ([5, None], 1), (["5", 6], 0), ([[5], 6], 0), ([5, (6,)], 1),
-    ([None, None], 0), ([5, {}], 1),
-]
-NO_STREAM = [(value, None) for value in WRONG_KINDS if not isinstance(value, list)] + [
-    ((5, 6), None), ("5", None), ([-1], 0), ([5, 10 ** 9 + 1], 1), ([5, 5, True], 2), ([False], 0), ([5, None], 1),
-    ([5, "6", -1], 1), ([[5]], 0), ([5, (5,)], 1), ([5, 6, 7, {}], 3), ([5] * 400 + [-1], 400),
-]
 NO_RULES = [(value, None) for value in WRONG_KINDS if not isinstance(value, list)] + [
     ([], None), ((first_in(2),), None), ({"0": first_in(2)}, None), ("rules", None),
     ([[]], 0), ([None], 0), ([first_in(2), None], 1), (first_in(2), 0), ([first_in(2), first_in(3)], 1),

@@ -6,7 +6,7 @@ import unittest
 from goesnext.errors import InvalidNumber
 from goesnext.parting import fitting
 from goesnext.rules import climbing, first_in, is_rule, last_used, raised, tree
-from model import WRONG_KINDS, CallTest, draw_row, draw_rule, drawn, model_outcomes
+from model import WRONG_KINDS, BitTree, CallTest, draw_row, draw_rule, drawn, model_outcomes
 
 NO_K = [1, 0, -1, -2, 13, 14, 10 ** 20, True, False, None, "", "2", "two", [], [2], (), (2,), {}, {"k": 2}]
 
@@ -19,46 +19,6 @@ def moved(targets):
         row.insert(target, row.pop(i))
         rule.append([row.index(j) for j in range(len(targets))])
     return rule
-
-
-class BitTree:
-    """Lines with a tree of bits over them; each bit points to the half that goes next."""
-
-    def __init__(self, blocks):
-        self.blocks = list(blocks)
-        self.bits = {}
-
-    def pointed(self):
-        low, size = 0, len(self.blocks)
-        while size > 1:
-            size //= 2
-            low += size * self.bits.get((low, size), 0)
-        return low
-
-    def turn_away(self, line):
-        low, size = 0, len(self.blocks)
-        while size > 1:
-            size //= 2
-            upper = line >= low + size
-            self.bits[(low, size)] = 0 if upper else 1
-            low += size * upper
-
-    def access(self, block):
-        hit = block in self.blocks
-        line = self.blocks.index(block) if hit else self.pointed()
-        self.blocks[line] = block
-        self.turn_away(line)
-        return hit
-
-    def row(self):
-        """The blocks in the order in which misses would take them out."""
-        twin = BitTree(self.blocks)
-        twin.bits = dict(self.bits)
-        found = []
-        for new in range(len(self.blocks)):
-            found.append(self.blocks[twin.pointed()])
-            twin.access(f"new {new}")
-        return found
 
 
 class IsRuleTest(CallTest):
