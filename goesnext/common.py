@@ -1,6 +1,6 @@
 """What several modules share: blocks, rows, streams, and the accesses of a rule."""
 
-from goesnext.errors import InvalidOutcomes, InvalidRow, InvalidStream
+from goesnext.errors import InvalidBlock, InvalidOutcomes, InvalidRow, InvalidStream
 
 
 def is_integer(value):
@@ -21,6 +21,12 @@ def is_block(value):
 def is_stream(value):
     """Whether any value is a stream; no length is too long."""
     return isinstance(value, list) and all([is_block(item) for item in value])
+
+
+def check_block(block):
+    """Raise InvalidBlock unless block is a block."""
+    if not is_block(block):
+        raise InvalidBlock("not an integer from 0 to 10 ** 9")
 
 
 def check_row(row, k):

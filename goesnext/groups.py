@@ -47,8 +47,20 @@ def word_for(permutations, one):
     steps = {start: None}
     level = [start]
     while goal not in steps:
-        level = _next_level(permutations, level, steps)
+        level = next_level(permutations, level, steps)
     return _word_to(goal, steps)
+
+
+def next_level(permutations, level, steps):
+    """The new ones that are made one permutation further on; steps gets the way to each."""
+    behind = []
+    for one in level:
+        for index, by in enumerate(permutations):
+            made = tuple([by[item] for item in one])
+            if made not in steps:
+                steps[made] = (one, index)
+                behind.append(made)
+    return behind
 
 
 def states_needed(rule):
@@ -56,7 +68,7 @@ def states_needed(rule):
     check_rule(rule)
     last = len(rule) - 1
     # What a miss does to the places, if the new block is taken for the one that goes.
-    return group_order([*rule, [last, *range(last)]])
+    return group_order([*rule, [last, *list(range(last))]])
 
 
 def rows_by_hits(rule):
@@ -128,18 +140,6 @@ def _order(chain):
     for backs in chain:
         many *= len(backs)
     return many
-
-
-def _next_level(permutations, level, steps):
-    """The new ones that are made one permutation further on; steps gets the way to each."""
-    behind = []
-    for one in level:
-        for index, by in enumerate(permutations):
-            made = tuple([by[item] for item in one])
-            if made not in steps:
-                steps[made] = (one, index)
-                behind.append(made)
-    return behind
 
 
 def _word_to(goal, steps):

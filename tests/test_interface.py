@@ -28,6 +28,17 @@ INTERFACE = {
                "why_not": ["table", "state"], "shows_not": ["table", "state", "value"],
                "needed_states": ["table", "state"], "parting_calls": ["one", "first", "other", "second"],
                "least_table": ["table", "state"], "table_for": ["rule"], "tree_table": ["k"], "marks_table": ["k"]},
+    "reach": {"can_reach": ["rule", "row", "goal"], "hits_to": ["rule", "row", "goal"],
+              "is_way": ["rule", "row", "goal", "value"], "far_rows": ["rule"]},
+    "unknown": {"forgets": ["rule"], "forgetting": ["rule"], "shows_forgetting": ["rule", "value"],
+                "learns": ["rule"], "sure": ["rule", "stream"]},
+    "records": {"first_rows": ["rule", "stream", "outcomes"], "is_possible": ["rule", "stream", "outcomes"],
+                "rows_left": ["rule", "stream", "outcomes"], "next_one": ["rule", "stream", "outcomes", "block"]},
+    "hidden": {"read_rule": ["hidden"]},
+}
+# For each class its base, the parameters of its constructor and of its methods, and its properties.
+CLASSES = {
+    "hidden": {"Hidden": ([object], ["rule"], {"ask": ["stream"]}, ["asks"])},
 }
 
 
@@ -39,11 +50,33 @@ class InterfaceTest(unittest.TestCase):
                 with self.subTest(file=file, name=name):
                     function = getattr(module, name)
                     self.assertEqual(function.__module__, module.__name__)
-                    told = list(inspect.signature(function).parameters.values())
-                    self.assertEqual([one.name for one in told], parameters)
-                    for one in told:
-                        self.assertIs(one.kind, inspect.Parameter.POSITIONAL_OR_KEYWORD)
-                        self.assertIs(one.default, inspect.Parameter.empty)
+                    self.assertTrue(inspect.isfunction(function))
+                    self.check_parameters(function, parameters)
+
+    def test_classes(self):
+        for file, classes in CLASSES.items():
+            module = importlib.import_module(f"goesnext.{file}")
+            for name, (bases, parameters, methods, properties) in classes.items():
+                with self.subTest(file=file, name=name):
+                    kind = getattr(module, name)
+                    self.assertEqual(kind.__module__, module.__name__)
+                    self.assertEqual([base.__name__ for base in kind.__bases__],
+                                     [base if isinstance(base, str) else base.__name__ for base in bases])
+                    self.check_parameters(kind, parameters)
+                    for method, told in methods.items():
+                        self.assertTrue(inspect.isfunction(vars(kind)[method]))
+                        self.check_parameters(vars(kind)[method], ["self"] + told)
+                    for told in properties:
+                        self.assertIsInstance(vars(kind)[told], property)
+
+    def check_parameters(self, function, parameters):
+        """With "by name " ahead a parameter is passed by name only; with * it takes any number of arguments."""
+        told = list(inspect.signature(function).parameters.values())
+        kinds = {inspect.Parameter.POSITIONAL_OR_KEYWORD: "", inspect.Parameter.KEYWORD_ONLY: "by name ",
+                 inspect.Parameter.VAR_POSITIONAL: "*"}
+        self.assertEqual([kinds[one.kind] + one.name for one in told], parameters)
+        for one in told:
+            self.assertIs(one.default, inspect.Parameter.empty)
 
 
 class FilesTest(unittest.TestCase):
