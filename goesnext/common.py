@@ -29,13 +29,26 @@ def check_block(block):
         raise InvalidBlock("not an integer from 0 to 10 ** 9")
 
 
+def is_row(value, k):
+    """Whether any value is a row of k places."""
+    return isinstance(value, list) and len(value) == k and _first_wrong(value) is None
+
+
 def check_row(row, k):
     """Raise InvalidRow unless row is a row of k places."""
     if not isinstance(row, list) or len(row) != k:
         raise InvalidRow(None)
+    wrong = _first_wrong(row)
+    if wrong is not None:
+        raise InvalidRow(wrong)
+
+
+def _first_wrong(row):
+    """The index of the first item that is no block or stands before, or None."""
     for index, item in enumerate(row):
         if not is_block(item) or item in row[:index]:
-            raise InvalidRow(index)
+            return index
+    return None
 
 
 def check_stream(stream):

@@ -35,10 +35,25 @@ INTERFACE = {
     "records": {"first_rows": ["rule", "stream", "outcomes"], "is_possible": ["rule", "stream", "outcomes"],
                 "rows_left": ["rule", "stream", "outcomes"], "next_one": ["rule", "stream", "outcomes", "block"]},
     "hidden": {"read_rule": ["hidden"]},
+    "keeping": {"life": ["rule", "place"], "way_out": ["rule", "place"], "is_way_out": ["rule", "place", "value"],
+                "keeps": ["rule"], "lost_way": ["rule", "gap"], "is_lost_way": ["rule", "gap", "value"]},
+    "rounds": {"hits_in": ["rule", "row", "stream", "times"], "row_after": ["rule", "row", "stream", "times"],
+               "period_of": ["rule", "row", "stream"]},
+    "texts": {"format_rule": ["rule"], "parse_rule": ["text"], "format_table": ["table"], "parse_table": ["text"],
+              "format_outcomes": ["outcomes"], "parse_outcomes": ["text"]},
 }
-# For each class its base, the parameters of its constructor and of its methods, and its properties.
+KEEPING = ["rule", "rows", "by name kept"]
+# For each class its bases, the parameters of its constructor and of its methods, and its properties.
 CLASSES = {
-    "hidden": {"Hidden": ([object], ["rule"], {"ask": ["stream"]}, ["asks"])},
+    "hidden": {"Hidden": (["object"], ["rule"], {"ask": ["stream"]}, ["asks"])},
+    "cache": {
+        "Cache": (["object"], ["rule", "rows"],
+                  {"access": ["block"], "undo": [], "tried": ["*blocks"], "twin": [], "__len__": [],
+                   "__eq__": ["other"]}, ["rows", "hits", "misses"]),
+        "CountingCache": (["Cache"], ["rule", "rows"], {}, ["by_set"]),
+        "KeepingCache": (["Cache"], KEEPING, {"access": ["block"]}, ["kept"]),
+        "CountingKeepingCache": (["KeepingCache", "CountingCache"], KEEPING, {}, []),
+    },
 }
 
 
@@ -60,8 +75,7 @@ class InterfaceTest(unittest.TestCase):
                 with self.subTest(file=file, name=name):
                     kind = getattr(module, name)
                     self.assertEqual(kind.__module__, module.__name__)
-                    self.assertEqual([base.__name__ for base in kind.__bases__],
-                                     [base if isinstance(base, str) else base.__name__ for base in bases])
+                    self.assertEqual([base.__name__ for base in kind.__bases__], bases)
                     self.check_parameters(kind, parameters)
                     for method, told in methods.items():
                         self.assertTrue(inspect.isfunction(vars(kind)[method]))
