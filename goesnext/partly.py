@@ -16,7 +16,7 @@ def accesses(backs, row, block, known):
 
     A block that is not known was not accessed before, so it may be each one of those at first.
     """
-    if known and block in row:
+    if block in row:
         place = row.index(block)
         return [(place, _hit(backs, row, place))]
     found = [(None, (*row[1:], block))]

@@ -382,6 +382,11 @@ class EqualTest(CallTest):
             for value in WRONG_KINDS + [[[0, 2]], first_in(2), "Cache", kind, (first_in(2), [[0, 2]])]:
                 self.differ(cache, value)
 
+    def test_another_class_with_the_same_name(self):
+        for kind in KINDS:
+            other = type(kind.__name__, (), {"rows": [[0, 2]], "hits": 0, "misses": 0})()
+            self.differ(made(kind, first_in(2), [[0, 2]]), other)
+
     def test_no_dict_keys(self):
         for kind in KINDS:
             with self.assertRaises(TypeError):

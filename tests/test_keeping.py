@@ -17,10 +17,8 @@ NO_WAY = WRONG_KINDS + [
 def some_rules(rng, k, many):
     named = [first_in(k), last_used(k), climbing(k)] + ([tree(k)] if k in (2, 4, 8) else [])
     lifted = [raised([rng.randint(i, k - 1) for i in range(k)]) for _ in range(2)]
-    # These hits throw down, so that a block can go soon.
-    thrown = [[rng.choice([(j + 1) % k, j])] for j in range(k)]
-    thrown = [[(j - 1 - thrown[i][0]) % k for j in range(k)] for i in range(k)]
-    return named + lifted + [thrown] + [draw_rule(rng, k) for _ in range(many)]
+    turned = [[(j - turn) % k for j in range(k)] for turn in rng.choices(range(k), k=k)]
+    return named + lifted + [turned] + [draw_rule(rng, k) for _ in range(many)]
 
 
 def places_behind(rule, places, own=False):
@@ -177,7 +175,7 @@ class LostWayTest(CallTest):
     def check(self, rule):
         told = self.steady(keeps, rule)
         self.assertEqual(told, own_keeps(rule))
-        for gap in [*range(told + 1)]:
+        for gap in range(told + 1):
             self.assertIsNone(self.steady(lost_way, rule, gap))
         for gap in [told + 1, told + 2, len(rule), 100]:
             way = self.steady(lost_way, rule, gap)

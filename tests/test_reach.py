@@ -12,7 +12,8 @@ from goesnext.runs import outcomes_of, row_behind
 from model import NO_ROW, NO_RULE, NO_STREAM, WRONG_KINDS, CallTest, draw_row, draw_rule, drawn, ran
 
 NO_GOAL = [(value, index) for value, index in NO_ROW if value not in ([0, False], [1, True])] + [
-    ([0, False], 0), ([1, True], 0), ([5, 7], 1), ([7, 5], 0), ([7, 8], 0), ([6, 6], 1), ([6, 7], 1), ([6, True], 1), ([10 ** 9, 6], 0),
+    ([0, False], 0), ([1, True], 0), ([5, 7], 1), ([7, 5], 0), ([7, 8], 0), ([6, 6], 1), ([6, 7], 1), ([6, True], 1),
+    ([10 ** 9, 6], 0),
 ]
 
 

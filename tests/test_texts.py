@@ -240,6 +240,11 @@ class TableTest(ReadTest):
         self.assertIsNone(self.check_table(" ".join(["0"] * 12 + ["11", "0"])))
         self.assertEqual(self.check_table(" ".join(["0"] * 13 + ["11"])), (0, 13))
 
+    def test_words_of_five_digits(self):
+        lines = ["0 0 0 0"] * 10002
+        for word, wrong in [("9999", None), ("10000", (5, 3)), ("10001", (5, 3))]:
+            self.assertEqual(self.check_table("\n".join(lines[:5] + ["0 0 0 " + word] + lines[6:])), wrong)
+
     def test_words_may_stand_twice(self):
         self.assertEqual(parse_table("0 0 0 0\n0 0 0 0"), [([0, 0], 0, 0), ([0, 0], 0, 0)])
 

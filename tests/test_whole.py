@@ -194,7 +194,8 @@ class UnknownRowsTest(CallTest):
                 first = [block if block in stream and outcomes[stream.index(block)] else None for block in row]
                 self.assertIn(first, first_rows(rule, stream, outcomes))
                 for block in (row[0], 600, 603):
-                    self.assertIn(next_one(rule, stream, outcomes, block), ("open", "hit" if block in behind else "miss"))
+                    told = "hit" if block in behind else "miss"
+                    self.assertIn(next_one(rule, stream, outcomes, block), ("open", told))
                 for told, hit in zip(sure(rule, stream), outcomes):
                     self.assertIn(told, ("open", "hit" if hit else "miss"))
 
@@ -230,7 +231,8 @@ class RoundsAndSetsTest(CallTest):
                 row = draw_row(rng, k)
                 stream = draw_stream(rng, row, rng.randint(0, 9))
                 first, length = period_of(rule, row, stream)
-                self.assertEqual(row_behind(rule, row, stream * first), row_behind(rule, row, stream * (first + length)))
+                again = row_behind(rule, row, stream * (first + length))
+                self.assertEqual(row_behind(rule, row, stream * first), again)
                 for times in (0, 1, 2, 7, 30):
                     self.assertEqual(hits_in(rule, row, stream, times), sum(outcomes_of(rule, row, stream * times)))
                     self.assertEqual(row_after(rule, row, stream, times), row_behind(rule, row, stream * times))
