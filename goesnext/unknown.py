@@ -96,7 +96,8 @@ def _next_ages(rule, level):
     found = {}
     for ages in level:
         older = [None if age is None else min(age + 1, k) for age in ages]
-        found[(*older[1:], 0)] = True
+        missed = (*older[1:], 0)
+        found[missed] = True
         for place, moves in enumerate(rule):
             if older[place] is None:
                 met = moved([*older[:place], 0, *older[place + 1:]], moves)

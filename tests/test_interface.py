@@ -1,4 +1,4 @@
-"""The interface stands as the document lists it, and the files keep to their sizes."""
+"""The interface stands as the document lists it, and the files keep to their sizes and forms."""
 
 import ast
 import doctest
@@ -105,6 +105,14 @@ class FilesTest(unittest.TestCase):
                 for node in ast.walk(ast.parse(text)):
                     if isinstance(node, ast.FunctionDef):
                         self.assertLessEqual(node.end_lineno - node.lineno + 1, 40)
+
+    def test_no_star_in_an_index(self):
+        for path in sorted(PACKAGE.glob("*.py")):
+            with self.subTest(path.name):
+                for node in ast.walk(ast.parse(path.read_text(encoding="utf-8"))):
+                    if isinstance(node, ast.Subscript):
+                        stars = [one for one in ast.walk(node.slice) if isinstance(one, ast.Starred)]
+                        self.assertEqual(stars, [], f"row {node.lineno}")
 
 
 class ReadmeTest(unittest.TestCase):
